@@ -1,0 +1,1 @@
+"""Line work in thread, seen from the front and from the back."""
