@@ -27,6 +27,10 @@ def are_near(one, other):
     return abs(one[0] - other[0]) <= LONGEST and abs(one[1] - other[1]) <= LONGEST
 
 
+def ordered(one, other):
+    return (one, other) if one < other else (other, one)
+
+
 def is_line(thing):
     if not (is_pair(thing) and is_hole(thing[0]) and is_hole(thing[1])):
         return False

@@ -28,6 +28,19 @@ WORDS = re.compile(
     r"|NamedTuple|TypedDict|TYPE_CHECKING|abstractmethod)\b|dataclass|overload|contextmanager"
 )
 
+# L17
+UNUSED = set(
+    "register mro elements open input version_info with_traceback add_note attrgetter breakpoint builtins compile "
+    "copyright credits delattr dir eval exec exit gc getattr globals hasattr help id importlib license locals "
+    "methodcaller os quit setattr super vars".split()
+)
+# L25
+METHODS = set(
+    "append clear copy count endswith extend find get index insert isalnum isalpha isdigit islower isspace isupper "
+    "items join keys ljust lower lstrip partition pop remove replace reverse rfind rjust rpartition rsplit rstrip "
+    "setdefault split splitlines startswith strip update upper values zfill bit_length".split()
+)
+
 
 def files():
     return sorted(path for path in PACKAGE.rglob("*") if "__pycache__" not in path.parts)
@@ -130,3 +143,92 @@ class FormTest(unittest.TestCase):
                         self.assertTrue(bound not in pythons or id(node) in methods)
                     if isinstance(node, ast.Name) and node.id in pythons:
                         self.assertIn(node.id, BUILT_IN)
+
+    def test_names_that_are_not_used(self):
+        for name, node in nodes():
+            with self.where(name, node):
+                for used in bound_names(node) + [getattr(node, "id", ""), getattr(node, "attr", "")]:
+                    self.assertNotIn(used, UNUSED)
+
+    def test_no_parameter_or_local_is_called_like_an_import_or_a_class(self):
+        for name, tree in trees():
+            taken = [each.name for node in tree.body if isinstance(node, ast.ImportFrom) for each in node.names]
+            taken += [node.name for node in tree.body if isinstance(node, ast.ClassDef)]
+            for node in ast.walk(tree):
+                if isinstance(node, (ast.arg, ast.Name)):
+                    with self.where(name, node):
+                        for bound in bound_names(node):
+                            self.assertNotIn(bound, taken)
+
+    def test_each_name_of_a_files_top_is_bound_once(self):
+        for name, tree in trees():
+            bound = [each.name for node in tree.body if isinstance(node, ast.ImportFrom) for each in node.names]
+            for node in tree.body:
+                if isinstance(node, (ast.FunctionDef, ast.ClassDef)):
+                    bound.append(node.name)
+                if isinstance(node, ast.Assign):
+                    bound.append(node.targets[0].id)
+            with self.subTest(file=name):
+                self.assertEqual(sorted(set(bound)), sorted(bound))
+
+    def test_names_are_drawn_from_the_file_that_defines_them(self):
+        defined = {}
+        for name, tree in trees():
+            own = [each for node in tree.body for each in bound_names(node)]
+            own += [node.targets[0].id for node in tree.body if isinstance(node, ast.Assign)]
+            defined["bothfaces." + name.removesuffix(".py")] = own
+        for name, node in nodes():
+            if isinstance(node, ast.ImportFrom):
+                for each in node.names:
+                    with self.where(name, node):
+                        self.assertIn(each.name, defined[node.module])
+
+    def test_no_two_files_draw_from_one_another(self):
+        drawn = {
+            "bothfaces." + name.removesuffix(".py"): [
+                node.module for node in tree.body if isinstance(node, ast.ImportFrom)
+            ]
+            for name, tree in trees()
+        }
+        # Files that draw from none are taken away, again and again: where none is left there is no ring.
+        while drawn:
+            ends = [name for name in drawn if not any(other in drawn for other in drawn[name])]
+            self.assertNotEqual(ends, [], sorted(drawn))
+            for name in ends:
+                drawn.pop(name)
+
+    def test_methods_of_pythons_own_values(self):
+        own = [
+            part.name
+            for name, node in nodes() if isinstance(node, ast.ClassDef)
+            for part in node.body if isinstance(part, ast.FunctionDef)
+        ]
+        for name, node in nodes():
+            if isinstance(node, ast.Call) and isinstance(node.func, ast.Attribute):
+                with self.where(name, node):
+                    self.assertTrue(node.func.attr in METHODS or node.func.attr in own)
+            # a value of an object bears no name of a method
+            if isinstance(node, ast.Attribute) and isinstance(node.ctx, ast.Store):
+                with self.where(name, node):
+                    self.assertNotIn(node.attr, own)
+
+    def test_is_and_texts(self):
+        for name, node in nodes():
+            with self.where(name, node):
+                if isinstance(node, ast.Compare) and any(isinstance(each, (ast.Is, ast.IsNot)) for each in node.ops):
+                    self.assertIsInstance(node.comparators[0], ast.Constant)
+                    self.assertIn(node.comparators[0].value, (None, True, False))
+                if isinstance(node, ast.FormattedValue):
+                    self.assertIsInstance(node.value, ast.Name)
+                if isinstance(node, ast.Constant) and isinstance(node.value, str):
+                    self.assertNotIn("%", node.value)
+
+    def test_sets_stand_within_others_alone(self):
+        for name, tree in trees():
+            within = {id(part): node for node in ast.walk(tree) for part in ast.iter_child_nodes(node)}
+            for node in ast.walk(tree):
+                if isinstance(node, ast.Call) and getattr(node.func, "id", "") in ("set", "frozenset"):
+                    with self.where(name, node):
+                        above = within[id(node)]
+                        called = above.func.id if isinstance(above, ast.Call) else ""
+                        self.assertTrue(isinstance(above, (ast.Compare, ast.BinOp)) or called in ("sorted", "len"))

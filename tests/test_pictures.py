@@ -1,11 +1,11 @@
 """Promises 5 and 6, colours and pictures, and promise 2 as far as it speaks of them."""
 
-import copy
 import itertools
 import unittest
 
 from bothfaces.errors import TooMany, TwoColours
 from bothfaces.pictures import colours, holes_of, is_colour, lines_of, picture
+from tests.askers import AskersOwn
 
 FAR = 10 ** 9
 EAST = ((0, 0), (1, 0))
@@ -189,7 +189,7 @@ class ToldOfPicturesTest(unittest.TestCase):
         self.assertEqual(holes_of([SLANT, SLANT]), [(0, 1), (1, 0)])
 
 
-class AskersOwnTest(unittest.TestCase):
+class AskersOwnTest(AskersOwn, unittest.TestCase):
     """Promise 2: each of the askings, on pictures and lists of lines."""
 
     pairs = [(SLANT, "red"), (EAST, "blue"), (EAST, "blue"), (AFAR, "red")]
@@ -198,69 +198,20 @@ class AskersOwnTest(unittest.TestCase):
 
     def askings(self):
         return (
-            (picture, list(self.pairs)),
-            (picture, list(self.one)),
-            (picture, []),
-            (colours, list(self.one)),
-            (colours, []),
-            (lambda given: lines_of(given, "red"), list(self.one)),
-            (lambda given: lines_of(given, "black"), list(self.one)),
-            (holes_of, list(self.lines)),
-            (holes_of, []),
+            (picture, (list(self.pairs),)),
+            (picture, (list(self.one),)),
+            (picture, ([],)),
+            (colours, (list(self.one),)),
+            (colours, ([],)),
+            (lines_of, (list(self.one), "red")),
+            (lines_of, (list(self.one), "black")),
+            (holes_of, (list(self.lines),)),
+            (holes_of, ([],)),
         )
 
-    def test_what_is_handed_in_stays(self):
-        for at, (ask, given) in enumerate(self.askings()):
-            with self.subTest(at=at):
-                ahead = copy.deepcopy(given)
-                ask(given)
-                self.assertEqual(given, ahead)
-
-    def test_what_is_handed_in_stays_behind_a_refusal(self):
-        for refusal, given in (
-            (TooMany, row_of(130)[::-1]),
-            (TwoColours, [(EAST, "red"), (NORTH, "red"), (EAST, "blue")]),
-            (TwoColours, row_of(130)[::-1] + row_of(1, "blue")),
-        ):
-            ahead = copy.deepcopy(given)
-            with self.subTest(refusal=refusal):
-                with self.assertRaises(refusal):
-                    picture(given)
-                self.assertEqual(given, ahead)
-                self.assertEqual(picture(given[:2]), sorted(ahead[:2]))
-
-    def test_a_told_list_is_a_new_one(self):
-        for at, (ask, given) in enumerate(self.askings()):
-            with self.subTest(at=at):
-                told = ask(given)
-                self.assertIsNot(told, given)
-                self.assertIsNot(ask(given), told)
-
-    def test_changing_a_told_list_changes_no_later_answer(self):
-        for at, (ask, given) in enumerate(self.askings()):
-            with self.subTest(at=at):
-                told = ask(given)
-                right = copy.deepcopy(told)
-                told.append("mine")
-                told.reverse()
-                self.assertEqual(ask(given), right)
-
-    def test_a_later_asking_changes_no_told_list(self):
-        for at, (ask, given) in enumerate(self.askings()):
-            with self.subTest(at=at):
-                told = ask(given)
-                right = copy.deepcopy(told)
-                for other_ask, other_given in self.askings():
-                    other_ask(other_given)
-                ask(given)
-                self.assertEqual(told, right)
-
-    def test_changing_what_was_handed_in_changes_no_told_list(self):
-        for at, (ask, given) in enumerate(self.askings()):
-            with self.subTest(at=at):
-                ahead = list(given)
-                told = ask(given)
-                right = copy.deepcopy(told)
-                given.clear()
-                self.assertEqual(told, right)
-                self.assertEqual(ask(ahead), right)
+    def refusals(self):
+        return (
+            (TooMany, picture, (row_of(130)[::-1],)),
+            (TwoColours, picture, ([(EAST, "red"), (NORTH, "red"), (EAST, "blue")],)),
+            (TwoColours, picture, (row_of(130)[::-1] + row_of(1, "blue"),)),
+        )
