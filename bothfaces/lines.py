@@ -37,10 +37,12 @@ def is_line(thing):
     return thing[0] < thing[1] and are_near(thing[0], thing[1])
 
 
+def are_ends(one, other):
+    return is_line((one, other)) or is_line((other, one))
+
+
 def line(one, other):
-    if is_line((one, other)):
-        return (one, other)
-    if is_line((other, one)):
-        return (other, one)
-    # The two are not shown in the words: they may be of any kind, and showing them may fail.
-    raise NoLine("these two make no line")
+    if not are_ends(one, other):
+        # The two are not shown in the words: they may be of any kind, and showing them may fail.
+        raise NoLine("these two make no line")
+    return ordered(one, other)

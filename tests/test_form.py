@@ -124,6 +124,13 @@ class FormTest(unittest.TestCase):
                 with self.where(name, node):
                     self.assertIsInstance(node, (ast.ImportFrom, ast.FunctionDef, ast.ClassDef, ast.Assign))
 
+    def test_what_stands_by_itself_is_a_call(self):
+        for name, tree in trees():
+            for node in ast.walk(tree):
+                if isinstance(node, ast.Expr) and node != tree.body[0]:
+                    with self.where(name, node):
+                        self.assertIsInstance(node.value, ast.Call)
+
     def test_classes_hold_methods_alone(self):
         for name, node in nodes():
             if isinstance(node, ast.ClassDef):

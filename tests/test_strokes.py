@@ -6,7 +6,7 @@ from bothfaces.errors import NoDrawing
 from bothfaces.strokes import read, shown
 from tests.askers import AskersOwn
 from tests.drawings import some_drawings
-from tests.test_lines import Strange
+from tests.things import Strange
 
 FAR = 10 ** 9
 WAYS = {
