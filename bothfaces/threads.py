@@ -26,16 +26,15 @@ def is_thread(thing):
     return is_pair(thing) and is_face(thing[0]) and are_holes(thing[1])
 
 
+def face_at(thread, at):
+    return thread[0] if at % 2 == 0 else other_face(thread[0])
+
+
 def stitches(thread):
-    face = thread[0]
     holes = thread[1]
-    told = []
-    for one, other in zip(holes, holes[1:]):
-        told.append((face, ordered(one, other)))
-        face = other_face(face)
-    return told
+    return [(face_at(thread, at), ordered(holes[at], holes[at + 1])) for at in range(len(holes) - 1)]
 
 
 def turned_about(thread):
-    last_face = stitches(thread)[-1][0]
-    return (last_face, thread[1][::-1])
+    last = len(thread[1]) - 2
+    return (face_at(thread, last), thread[1][::-1])

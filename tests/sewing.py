@@ -1,17 +1,79 @@
-"""Works and threads in many forms, the same ones each time, for tests that go over many of them."""
+"""Works, ties and threads in many forms, the same ones each time, for tests that go over many of them."""
 
 import random
 
 FAR = 10 ** 9
+FACES = ("front", "back")
+MIDDLE = (0, 0)
+EAST = ((0, 0), (1, 0))
+NORTH = ((0, 0), (0, 1))
+SLANT = ((0, 1), (1, 0))
+WEST = ((-1, 0), (0, 0))
+SOUTH = ((0, -1), (0, 0))
+AFAR = ((-FAR, FAR), (-FAR + 9, FAR - 9))
+TOP = ((0, 1), (1, 1))
+RIGHT = ((1, 0), (1, 1))
+SQUARE = [NORTH, EAST, TOP, RIGHT]
 
 
 def ends(one, other):
     return (one, other) if one < other else (other, one)
 
 
+def way(*holes):
+    """The lines from each of these holes to the next."""
+    return list(zip(holes, holes[1:]))
+
+
+def moved(lines, east, north=0):
+    return [tuple((x + east, y + north) for x, y in line) for line in lines]
+
+
+def to_and_fro(many):
+    """So many holes, by turns the one and the other."""
+    return tuple((at % 2, 0) for at in range(many))
+
+
+def ahead(many):
+    """So many unlike holes, each nine to the east and one to the north or to the south of the one ahead."""
+    return tuple((at * 9 - 1000, at % 2) for at in range(many))
+
+
 def made(front, back):
     """The work of these lines, in any order and written from either end."""
     return tuple(sorted({ends(*line) for line in lines}) for lines in (front, back))
+
+
+def stitches_asked(work):
+    """The stitches that a work asks for, as (face, line)."""
+    return [(face, line) for face, lines in zip(FACES, work) for line in lines]
+
+
+def sewn(thread):
+    """The stitches of a thread, reckoned anew."""
+    face, holes = thread
+    faces = (FACES if face == "front" else FACES[::-1]) * len(holes)
+    return [(own, ends(*two)) for own, two in zip(faces, zip(holes, holes[1:]))]
+
+
+def ends_by_hole(threads):
+    """How many ends of these threads lie at each hole."""
+    count = {}
+    for face, holes in threads:
+        for hole in (holes[0], holes[-1]):
+            count[hole] = count.get(hole, 0) + 1
+    return count
+
+
+def heaps(work, ties):
+    """The stitches of a work in heaps, sorted: those that are tied, in however many steps, lie in one."""
+    heap_by = {stitch: [stitch] for stitch in stitches_asked(work)}
+    for hole, one, other in ties:
+        first, second = heap_by["front", one], heap_by["back", other]
+        if first is not second:
+            first += second
+            heap_by.update((stitch, first) for stitch in second)
+    return sorted({tuple(sorted(heap)) for heap in heap_by.values()})
 
 
 def some_line(dice, wide, reach):
@@ -50,3 +112,21 @@ def some_threads(many):
                 holes.append((x, y))
         threads.append((dice.choice(("front", "back")), tuple(holes)))
     return threads
+
+
+def some_ties(dice, work, share):
+    """Ties of a work in any order: at each hole each front line, by chance, with some back line."""
+    ties = []
+    for hole in sorted({hole for face, line in stitches_asked(work) for hole in line}):
+        front, back = ([line for line in lines if hole in line] for lines in work)
+        dice.shuffle(front)
+        dice.shuffle(back)
+        ties += [(hole, one, other) for one, other in zip(front, back) if dice.random() < share]
+    dice.shuffle(ties)
+    return ties
+
+
+def some_tied(many):
+    """So many works with ties: with all that can be tied, with some of it, with little."""
+    dice = random.Random(21)
+    return [(work, some_ties(dice, work, dice.choice((1, 1, 0.9, 0.5, 0.1)))) for work in some_works(many)]

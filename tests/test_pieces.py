@@ -5,26 +5,7 @@ import unittest
 from bothfaces.pieces import need, pieces
 from bothfaces.works import surplus
 from tests.askers import AskersOwn
-from tests.sewing import made, some_works
-
-FAR = 10 ** 9
-EAST = ((0, 0), (1, 0))
-NORTH = ((0, 0), (0, 1))
-SLANT = ((0, 1), (1, 0))
-WEST = ((-1, 0), (0, 0))
-AFAR = ((-FAR, FAR), (-FAR + 9, FAR - 9))
-TOP = ((0, 1), (1, 1))
-RIGHT = ((1, 0), (1, 1))
-SQUARE = [NORTH, EAST, TOP, RIGHT]
-
-
-def way(*holes):
-    """The lines from each of these holes to the next."""
-    return list(zip(holes, holes[1:]))
-
-
-def moved(lines, east, north=0):
-    return [tuple((x + east, y + north) for x, y in line) for line in lines]
+from tests.sewing import AFAR, EAST, FAR, NORTH, RIGHT, SLANT, SQUARE, TOP, WEST, made, moved, some_works, way
 
 
 def by_turns(lines):

@@ -6,7 +6,7 @@ import unittest
 from bothfaces.lines import is_line
 from bothfaces.threads import is_thread, stitches, turned_about
 from tests.askers import AskersOwn
-from tests.sewing import some_threads
+from tests.sewing import ahead, some_threads, to_and_fro
 from tests.things import BEYOND, FAR, NO_HOLES, NO_NUMBERS, Strange
 
 FACES = ("front", "back")
@@ -17,16 +17,6 @@ NO_FACES = (
     "frontback", "face", "both", None, True, False, 0, 1, b"front", ("front",), ["front"], ["back"], {"front": True},
     {"front"}, 1.5, str, Strange(),
 )
-
-
-def to_and_fro(many):
-    """So many holes, by turns the one and the other."""
-    return tuple((at % 2, 0) for at in range(many))
-
-
-def ahead(many):
-    """So many unlike holes, each nine to the east and one to the north or to the south of the one ahead."""
-    return tuple((at * 9 - 1000, at % 2) for at in range(many))
 
 
 class IsThreadTest(unittest.TestCase):

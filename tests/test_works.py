@@ -6,14 +6,8 @@ import unittest
 from bothfaces.pictures import colours, picture
 from bothfaces.works import surplus, work_of
 from tests.askers import AskersOwn
-from tests.sewing import made, some_works
+from tests.sewing import AFAR, EAST, NORTH, SLANT, WEST, made, some_works
 
-FAR = 10 ** 9
-EAST = ((0, 0), (1, 0))
-NORTH = ((0, 0), (0, 1))
-SLANT = ((0, 1), (1, 0))
-WEST = ((-1, 0), (0, 0))
-AFAR = ((-FAR, FAR), (-FAR + 9, FAR - 9))
 FRONT = [(AFAR, "red"), (WEST, "blue"), (NORTH, "red"), (EAST, "green"), (SLANT, "red")]
 BACK = [(WEST, "blue"), (NORTH, "black"), (EAST, "red"), (SLANT, "red")]
 
